@@ -1,0 +1,1 @@
+"""Joinmill: units written apart, joined and run by steps."""
