@@ -1,6 +1,7 @@
-"""Asks whether the package keeps to the part of Python that it is to be written in (the rules L1 to L28).
+"""Asks whether the package keeps to a part of the rules that it is to be written by.
 
-Only what can be seen in the tree of a file is asked here; a rule's number stands in each complaint.
+Asked, though not every clause of them: L1 to L8, L10, L12, L14 to L18, L20, L25, L27. Not asked at all: L9, L11, L13,
+L19, L21 to L24, L26, L28; these are to be looked at by eye. A rule's number stands in each complaint.
 """
 
 import ast
