@@ -2,7 +2,7 @@
 
 from joinmill.errors import NoText
 from joinmill.things import (
-    GREATEST_NUMBER, MOST_AROUND, MOST_PARTS, PART_SORTS, SIGNS, STATEMENT_FORMS, is_face, is_name, is_unit,
+    GREATEST_NUMBER, MOST_AROUND, MOST_PARTS, NAME_SORTS, PART_SORTS, SIGNS, STATEMENT_FORMS, is_face, is_name, is_unit,
 )
 
 
@@ -126,7 +126,7 @@ def read_statement(row, around):
 
 
 def read_part(row, sort, around):
-    if sort == "NAME":
+    if sort in NAME_SORTS:
         return read_name(row)
     if sort == "EXPRESSION":
         return read_expression(row, around)

@@ -17,20 +17,22 @@ MOST_TAKES = 8
 # In how many others an expression or a statement may lie.
 MOST_AROUND = 12
 
-# Checking, writing and reading all go by this one table, so that they can't part. It tells what is written behind a
-# statement's first word: a word of PART_SORTS stands for the next part of the statement's tuple, any other for itself.
-PART_SORTS = ("NAME", "EXPRESSION", "PARTS", "BLOCK")
+# Checking, writing, reading and asking what names mean all go by this one table, so that they can't part. It tells what
+# is written behind a statement's first word: a word of PART_SORTS stands for the next part of the statement's tuple,
+# any other for itself. WORD and DEED are both names; which of the two a name means is no matter of form.
+NAME_SORTS = ("WORD", "DEED")
+PART_SORTS = ("WORD", "DEED", "EXPRESSION", "PARTS", "BLOCK")
 STATEMENT_FORMS = {
-    "let": ("NAME", "be", "EXPRESSION"),
+    "let": ("WORD", "be", "EXPRESSION"),
     "if": ("EXPRESSION", "then", "BLOCK", "else", "BLOCK"),
     "while": ("EXPRESSION", "do", "BLOCK"),
-    "do": ("NAME", "PARTS"),
+    "do": ("DEED", "PARTS"),
     "give": ("EXPRESSION",),
     "tell": ("EXPRESSION",),
-    "get": ("NAME",),
-    "new": ("NAME", "deed", "NAME"),
-    "hand": ("NAME", "to", "EXPRESSION"),
-    "await": ("NAME", "and", "NAME"),
+    "get": ("WORD",),
+    "new": ("WORD", "deed", "DEED"),
+    "hand": ("WORD", "to", "EXPRESSION"),
+    "await": ("WORD", "and", "WORD"),
 }
 
 
@@ -115,7 +117,7 @@ def is_statement_within(thing, around):
     word = first_word(thing)
     if around > MOST_AROUND or word not in STATEMENT_FORMS:
         return False
-    sorts = [step for step in STATEMENT_FORMS[word] if step in PART_SORTS]
+    sorts = part_sorts_of(word)
     if len(thing) != len(sorts) + 1:
         return False
     for sort, part in zip(sorts, thing[1:]):
@@ -124,8 +126,13 @@ def is_statement_within(thing, around):
     return True
 
 
+# In the order of the statement's tuple, which is that of its writing.
+def part_sorts_of(word):
+    return [step for step in STATEMENT_FORMS[word] if step in PART_SORTS]
+
+
 def is_part_within(sort, part, around):
-    if sort == "NAME":
+    if sort in NAME_SORTS:
         return is_name(part)
     if sort == "EXPRESSION":
         return is_expression_within(part, around)

@@ -1,7 +1,7 @@
 """Writes a face or a unit as a row of words."""
 
 from joinmill.errors import NoThing
-from joinmill.things import PART_SORTS, STATEMENT_FORMS, is_face, is_unit
+from joinmill.things import NAME_SORTS, PART_SORTS, STATEMENT_FORMS, is_face, is_unit
 
 
 def written(thing):
@@ -61,7 +61,7 @@ def statement_words(statement):
 
 
 def part_words(sort, part):
-    if sort == "NAME":
+    if sort in NAME_SORTS:
         return [part]
     if sort == "EXPRESSION":
         return expression_words(part)

@@ -1,7 +1,7 @@
 """Asks whether the package keeps to a part of the rules that it is to be written by.
 
-Asked, though not every clause of them: L1 to L8, L10, L12, L14 to L18, L20, L25, L27. Not asked at all: L9, L11, L13,
-L19, L21 to L24, L26, L28; these are to be looked at by eye. A rule's number stands in each complaint.
+Asked, though not every clause of them: L1 to L8, L10, L12, L14 to L18, L20, L25 to L27. Not asked at all: L9, L11,
+L13, L19, L21 to L24, L28; these are to be looked at by eye. A rule's number stands in each complaint.
 """
 
 import ast
@@ -19,6 +19,7 @@ BUILTINS = set("""len range enumerate zip min max sum abs sorted reversed int st
 METHODS = set("""append clear copy count endswith extend find get index insert isalnum isalpha isdigit islower isspace
     isupper items join keys ljust lower lstrip partition pop remove replace reverse rfind rjust rpartition rsplit rstrip
     setdefault split splitlines startswith strip update upper values zfill bit_length""".split())
+VALUES = set("count index title find get join lower upper split strip copy add".split())
 UNUSED_NAMES = set("""register mro elements open input version_info with_traceback add_note attrgetter breakpoint builtins
     compile copyright credits delattr dir eval exec exit gc getattr globals hasattr help id importlib license locals
     methodcaller os quit setattr super type vars sys""".split())
@@ -229,6 +230,12 @@ class Form(unittest.TestCase):
             for node in ast.walk(tree):
                 if isinstance(node, ast.Attribute):
                     self.assertIn(node.attr, METHODS | methods | stored, f"L25 {name}:{node.lineno}")
+
+    def test_own_names(self):
+        taken = {name for kind in [str, int, list, dict, set, bytes] for name in dir(kind)} | {"args"}
+        methods, stored = own_attributes(self.trees.values())
+        self.assertEqual(methods & taken - METHODS - {"add", "discard"} - set(OWN_UNDERSCORED), set(), "L26")
+        self.assertEqual(stored & taken - VALUES, set(), "L26")
 
     def test_imports(self):
         drawn = {}
