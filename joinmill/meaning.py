@@ -28,6 +28,11 @@ def meanings_told(face):
     return meanings
 
 
+# All words of a unit in the order in which they are kept: those that its face tells, then those it has for itself.
+def words_of(unit, face):
+    return unit[2] if face is None else face[1] + unit[2]
+
+
 # This and the two below lay what they go through on the top, since each name is asked with those ahead of it alone.
 def fault_of_takes(unit, faces, top):
     for source, name in unit[1]:
